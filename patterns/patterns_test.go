@@ -1,0 +1,62 @@
+package patterns
+
+import (
+	"errors"
+	"strings"
+	"testing"
+)
+
+func TestReadTellsWhatIsWrong(t *testing.T) {
+	for _, c := range []struct {
+		text string
+		want error
+	}{
+		{"a|(b*)", nil},
+		{"a|(b*", ErrSyntax},
+		{strings.Repeat("a", 25), ErrSize},
+		{strings.Repeat("a", 25) + ")", ErrSyntax},
+		{strings.Repeat("|", 121), ErrLong},
+	} {
+		p, err := Read(c.text)
+		if !errors.Is(err, c.want) || (p == nil) != (err != nil) {
+			t.Errorf("Read(%q) = %v, %v, want %v", c.text, p, err, c.want)
+		}
+	}
+}
+
+func TestSize(t *testing.T) {
+	for text, want := range map[string]int{
+		"": 0, "()|": 0, "a": 1, `\\`: 1, "[a-z0-9]": 1, ".": 1, "(a*|b.)+[xy]?": 4,
+	} {
+		p, err := Read(text)
+		if err != nil || p.Size() != want {
+			t.Errorf("Read(%q): %v, %v, want the size %d", text, p, err, want)
+		}
+	}
+}
+
+func TestSignsHoldTheirRangeAlone(t *testing.T) {
+	s := Signs{}.with('\n', '\n').with(' ', '!').with('}', '~')
+	for i := range 256 {
+		b := byte(i)
+		want := b == '\n' || b == ' ' || b == '!' || b == '}' || b == '~'
+		if s.has(b) != want {
+			t.Errorf("byte %d: %v, want %v", i, s.has(b), want)
+		}
+	}
+}
+
+func TestANetAnswersTheSameAgain(t *testing.T) {
+	p, err := Read("(a|bc)*d?")
+	if err != nil {
+		t.Fatal(err)
+	}
+	n := NewNet(p)
+	for range 2 {
+		for text, want := range map[string]bool{"": true, "abca": true, "bcd": true, "b": false, "dd": false} {
+			if n.Matches(text) != want {
+				t.Errorf("Matches(%q) is not %v", text, want)
+			}
+		}
+	}
+}

@@ -60,17 +60,34 @@ func TestP1RepeatsWithinRepeatsEnd(t *testing.T) {
 	checkMatch(t, "(a|aa|aaa|a*)*b", text+"a", false, api.OK)
 }
 
-type matchAnswer struct {
-	found bool
-	err   api.Errno
+// Wide repeats are where a search over sets of places, or over texts, would not end in a lifetime.
+func TestP1WideSearchesEnd(t *testing.T) {
+	wide := "(" + strings.Repeat("a|", 22) + "a)*"
+	checkOnce(t, wide+"b", wide+"b", true, api.OK)
+	checkOnce(t, wide+"b?", wide+"b", false, api.OK)
+	checkApart(t, wide+"b", wide+"c", true, api.OK)
+	checkApart(t, wide+"b", wide+"b", false, api.OK)
+	lateOne := "(a|b)*a" + strings.Repeat("(a|b)", 10)
+	lateTwo := "(a|b)*b" + strings.Repeat("(a|b)", 10)
+	checkApart(t, lateOne, lateTwo, true, api.OK)
+	checkOnce(t, lateOne, lateTwo, false, api.OK)
+	checkOnce(t, lateOne+"c", lateTwo, true, api.OK)
 }
 
-func matchAll(patterns, texts []string) []matchAnswer {
-	var out []matchAnswer
-	for _, pattern := range patterns {
-		for _, text := range texts {
-			found, err := lenses.Match(pattern, text)
-			out = append(out, matchAnswer{found, err})
+type answer struct {
+	yes bool
+	err api.Errno
+}
+
+// answersOfAll asks each call that answers yes or no, at each pair.
+func answersOfAll(firsts, seconds []string) []answer {
+	var out []answer
+	for _, ask := range []func(string, string) (bool, api.Errno){lenses.Match, lenses.Once, lenses.Apart} {
+		for _, a := range firsts {
+			for _, b := range seconds {
+				yes, err := ask(strings.Clone(a), strings.Clone(b))
+				out = append(out, answer{yes, err})
+			}
 		}
 	}
 	return out
@@ -78,16 +95,16 @@ func matchAll(patterns, texts []string) []matchAnswer {
 
 // Calls that went before, calls of another goroutine and the memory in which a text lies must leave no trace.
 func TestP2AnswersHangOnArgumentsAlone(t *testing.T) {
-	patterns := []string{"a*", "(", "(ab)*", nest(13, ""), "[a-z]+", "[b-a]", strings.Repeat("a", 25), "a|", nest(12, "a"), ".b"}
-	texts := []string{"", "a", "ab", "abab", "\x00", strings.Repeat("a", 60), strings.Repeat("a", 61)}
-	want := matchAll(patterns, texts)
+	firsts := []string{"a*", "(", "(ab)*", nest(13, ""), "[a-z]+", "[b-a]", strings.Repeat("a", 25), "a|", nest(12, "a"), ".b"}
+	seconds := []string{"", "a", "ab", "abab", "a*|b", "\x00", strings.Repeat("a", 60), strings.Repeat("a", 61)}
+	want := answersOfAll(firsts, seconds)
 	var group sync.WaitGroup
 	for range 8 {
 		group.Add(1)
 		go func() {
 			defer group.Done()
 			for range 20 {
-				for i, got := range matchAll(patterns, texts) {
+				for i, got := range answersOfAll(firsts, seconds) {
 					if got != want[i] {
 						t.Errorf("answer %d changed: %v, then %v", i, want[i], got)
 					}
@@ -96,9 +113,4 @@ func TestP2AnswersHangOnArgumentsAlone(t *testing.T) {
 		}()
 	}
 	group.Wait()
-	for i, pattern := range patterns {
-		for k, text := range texts {
-			checkMatch(t, strings.Clone(pattern), strings.Clone(text), want[i*len(texts)+k].found, want[i*len(texts)+k].err)
-		}
-	}
 }

@@ -51,9 +51,9 @@ func oracleError(pattern string) api.Errno {
 	return api.OK
 }
 
-// oracleRegexp tells a pattern that is one in the library's way of writing.
-func oracleRegexp(pattern string) *regexp.Regexp {
-	inner := oracleThing.ReplaceAllStringFunc(pattern, func(thing string) string {
+// oracleInner tells a pattern that is one in the library's way of writing.
+func oracleInner(pattern string) string {
+	return oracleThing.ReplaceAllStringFunc(pattern, func(thing string) string {
 		switch thing[0] {
 		case '[':
 			return thing
@@ -62,5 +62,8 @@ func oracleRegexp(pattern string) *regexp.Regexp {
 		}
 		return regexp.QuoteMeta(strings.TrimPrefix(thing, `\`))
 	})
-	return regexp.MustCompile(`\A(?:` + inner + `)\z`)
+}
+
+func oracleRegexp(pattern string) *regexp.Regexp {
+	return regexp.MustCompile(`\A(?:` + oracleInner(pattern) + `)\z`)
 }

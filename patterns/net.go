@@ -14,6 +14,9 @@ type span struct {
 	empty bool
 }
 
+// start is where a walk through a net stands that has read nothing yet: at no place.
+const start = -1
+
 // Net holds the places of a pattern and tells which may stand right behind which. A text is gone through once, whatever the pattern: no repeat within repeats makes it longer.
 type Net struct {
 	places []Signs
@@ -93,6 +96,22 @@ func (n *Net) link(from, to set) {
 			n.behind[i] |= to
 		}
 	}
+}
+
+// next answers the places that may stand right behind a place, or begin a text.
+func (n *Net) next(at int) set {
+	if at == start {
+		return n.whole.first
+	}
+	return n.behind[at]
+}
+
+// ends tells whether a text may end at a place, or ahead of all.
+func (n *Net) ends(at int) bool {
+	if at == start {
+		return n.whole.empty
+	}
+	return n.whole.last.has(at)
 }
 
 // Matches tells whether a text is one of the pattern.

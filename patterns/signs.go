@@ -27,3 +27,8 @@ func (s Signs) with(first, last byte) Signs {
 func (s Signs) has(b byte) bool {
 	return b < 128 && s[b/64]>>(b%64)&1 == 1
 }
+
+// meets tells whether a sign is in both.
+func (s Signs) meets(other Signs) bool {
+	return s[0]&other[0]|s[1]&other[1] != 0
+}

@@ -14,8 +14,9 @@ type oracleProg struct {
 	start []uint32
 }
 
-func oracleCompile(pattern string) oracleProg {
-	tree, err := syntax.Parse("(?:"+oracleInner(pattern)+")", syntax.Perl)
+// oracleCompile takes the library's way of writing, in which oracleInner tells a pattern.
+func oracleCompile(inner string) oracleProg {
+	tree, err := syntax.Parse("(?:"+inner+")", syntax.Perl)
 	if err != nil {
 		panic(err)
 	}
@@ -141,6 +142,56 @@ func oracleOnce(a, b oracleProg, alphabet string) bool {
 			}
 			if a.ends(next.whole) {
 				next.add(b.start)
+			}
+			open = append(open, next)
+		}
+	}
+	return true
+}
+
+// oraclePieces tells whether no text can be cut in two ways into pieces that are p's. It counts the ways, up to two, by where the last piece stands.
+func oraclePieces(p oracleProg, alphabet string) bool {
+	type last struct {
+		at   []uint32
+		ways int
+	}
+	add := func(all []last, at []uint32, ways int) []last {
+		for i := range all {
+			if slices.Equal(all[i].at, at) {
+				all[i].ways = min(2, all[i].ways+ways)
+				return all
+			}
+		}
+		return append(all, last{at, ways})
+	}
+	seen := map[string]bool{}
+	open := [][]last{{{p.start, 1}}}
+	for len(open) > 0 {
+		x := open[0]
+		open = open[1:]
+		slices.SortFunc(x, func(a, b last) int { return slices.Compare(a.at, b.at) })
+		if key := fmt.Sprint(x); seen[key] {
+			continue
+		} else {
+			seen[key] = true
+		}
+		for _, sign := range alphabet {
+			var next []last
+			ends := 0
+			for _, piece := range x {
+				at := p.read(piece.at, sign)
+				if len(at) > 0 {
+					next = add(next, at, piece.ways)
+				}
+				if p.ends(at) {
+					ends += piece.ways
+				}
+			}
+			if ends > 1 {
+				return false
+			}
+			if ends > 0 {
+				next = add(next, p.start, ends)
 			}
 			open = append(open, next)
 		}

@@ -140,7 +140,7 @@ func TestP4Errors(t *testing.T) {
 
 func checkCutsAgainstOracle(t *testing.T, a, b, alphabet string) {
 	t.Helper()
-	one, two := oracleCompile(a), oracleCompile(b)
+	one, two := oracleCompile(oracleInner(a)), oracleCompile(oracleInner(b))
 	checkOnce(t, a, b, oracleOnce(one, two, alphabet), api.OK)
 	checkOnce(t, b, a, oracleOnce(two, one, alphabet), api.OK)
 	checkApart(t, a, b, oracleApart(one, two, alphabet), api.OK)

@@ -4,7 +4,8 @@ import (
 	"errors"
 
 	"lenses/api"
-	"lenses/patterns"
+	"lenses/programs"
+	"lenses/reading"
 )
 
 // errno tells an error of the inner packages as the number that a call answers.
@@ -12,10 +13,12 @@ func errno(err error) api.Errno {
 	switch {
 	case err == nil:
 		return api.OK
-	case errors.Is(err, patterns.ErrLong):
+	case errors.Is(err, reading.ErrLong):
 		return api.ErrLong
-	case errors.Is(err, patterns.ErrSize):
+	case errors.Is(err, reading.ErrSize):
 		return api.ErrSize
+	case errors.Is(err, programs.ErrType):
+		return api.ErrType
 	}
 	return api.ErrSyntax
 }

@@ -13,6 +13,9 @@ import (
 func oddTexts() []string {
 	out := []string{
 		"", "a", "a*", "(", ")", "[", "[a-", `\`, "|", "é", "\xff\xfe", "\x00", "/a/", `-/a/"b"`, "<", "(a~", api.Commas, api.Equals,
+		"//", "/a/*", `-/a*/"a"`, `+"a"`, "(/a/~/b/)", "</a/>", "/a/|/b/", "/a*//a*/", "(/a/~", `+"`, `-/a/"`, "/", "/a/**", "-", "+", "~", "*",
+		nest(12, "/a/"), nest(13, "/a/"), pointed(12, "/a/"), strings.Repeat("//", 60), strings.Repeat("/", 120), strings.Repeat("<", 120), strings.Repeat("<", 100000), strings.Repeat("/a/|", 29) + "/b/",
+		`+"` + strings.Repeat("a", 24) + `"`, `+"` + strings.Repeat("a", 117) + `"`, "/" + strings.Repeat("a?", 24) + "/", "/" + strings.Repeat("a", 118) + "/",
 		strings.Repeat("(", 120), strings.Repeat("(", 121), strings.Repeat("[", 120), strings.Repeat("\\", 119),
 		strings.Repeat("a", 24), strings.Repeat("a", 25), strings.Repeat("a", 60), strings.Repeat("a", 61),
 		nest(12, ""), nest(13, ""), nest(12, "a*"), strings.Repeat("a", 100000), strings.Repeat("(", 100000),
@@ -37,10 +40,37 @@ func TestP1NoPanicAndNothingBesideAnError(t *testing.T) {
 				t.Errorf("Apart(%q, %q) = %v, %d", a, b, got, err)
 			}
 		}
-		if got, err := lenses.Compile(a); got != nil && err != api.OK {
-			t.Errorf("Compile(%q) = %v, %d", a, got, err)
+	}
+}
+
+// A Lens is asked at every text; what Compile answers with an error is asked too, and has no texts.
+func TestP1ProgramsAndTheirTexts(t *testing.T) {
+	texts := oddTexts()
+	for _, program := range texts {
+		l, err := lenses.Compile(program)
+		if (l == nil) != (err != api.OK) {
+			t.Errorf("Compile(%q) = %v, %d", program, l, err)
+		}
+		for _, text := range texts {
+			source, view := l.IsSource(text), l.IsView(text)
+			if (source || view) && (l == nil || len(text) > 60) {
+				t.Errorf("%q: IsSource(%q) = %v, IsView %v", program, text, source, view)
+			}
 		}
 	}
+	if l := new(lenses.Lens); l.IsSource("") || l.IsView("") {
+		t.Errorf("a Lens without a program has texts")
+	}
+}
+
+// Programs for whose types much is to be searched, and texts that could be read in many ways.
+func TestP1GreatProgramsEnd(t *testing.T) {
+	wide := "(" + strings.Repeat("a|", 10) + "a)*"
+	checkAllCompile(t, api.OK, "/"+wide+"b//"+wide+"b/", "/"+wide+"b/|/"+wide+"c/", "(/"+wide+"b/)*", "</"+wide+"b/>", "(/"+wide+"b/~/"+wide+"c/)", "("+strings.Repeat("//", 59)+")")
+	checkAllCompile(t, api.ErrType, "/"+wide+"b?//"+wide+"b/", "/"+wide+"b?/|/"+wide+"c?/", "(/"+wide+"/)*", "("+strings.Repeat("//", 57)+")*", "//"+strings.Repeat("|//", 39))
+	l := mustCompile(t, "</(a|b)*"+strings.Repeat("(a?|b?)", 8)+"c/>")
+	checkKind(t, "many ways", l, strings.Repeat("a", 59)+"c", true, true)
+	checkKind(t, "many ways", l, strings.Repeat("a", 60), false, false)
 }
 
 // Repeats within repeats are where a search that tries one way after another would not end in a lifetime.
@@ -93,18 +123,25 @@ func answersOfAll(firsts, seconds []string) []answer {
 	return out
 }
 
-// Calls that went before, calls of another goroutine and the memory in which a text lies must leave no trace.
-func TestP2AnswersHangOnArgumentsAlone(t *testing.T) {
-	firsts := []string{"a*", "(", "(ab)*", nest(13, ""), "[a-z]+", "[b-a]", strings.Repeat("a", 25), "a|", nest(12, "a"), ".b"}
-	seconds := []string{"", "a", "ab", "abab", "a*|b", "\x00", strings.Repeat("a", 60), strings.Repeat("a", 61)}
-	want := answersOfAll(firsts, seconds)
+// answersOfLens asks a Lens at each text.
+func answersOfLens(l *lenses.Lens, texts []string) []answer {
+	var out []answer
+	for _, text := range texts {
+		out = append(out, answer{yes: l.IsSource(strings.Clone(text))}, answer{yes: l.IsView(strings.Clone(text))})
+	}
+	return out
+}
+
+// checkSame asks again and again, in several goroutines at a time.
+func checkSame(t *testing.T, want []answer, ask func() []answer) {
+	t.Helper()
 	var group sync.WaitGroup
 	for range 8 {
 		group.Add(1)
 		go func() {
 			defer group.Done()
 			for range 20 {
-				for i, got := range answersOfAll(firsts, seconds) {
+				for i, got := range ask() {
 					if got != want[i] {
 						t.Errorf("answer %d changed: %v, then %v", i, want[i], got)
 					}
@@ -113,4 +150,49 @@ func TestP2AnswersHangOnArgumentsAlone(t *testing.T) {
 		}()
 	}
 	group.Wait()
+}
+
+// Calls that went before, calls of another goroutine and the memory in which a text lies must leave no trace.
+func TestP2AnswersHangOnArgumentsAlone(t *testing.T) {
+	firsts := []string{"a*", "(", "(ab)*", nest(13, ""), "[a-z]+", "[b-a]", strings.Repeat("a", 25), "a|", nest(12, "a"), ".b"}
+	seconds := []string{"", "a", "ab", "abab", "a*|b", "\x00", strings.Repeat("a", 60), strings.Repeat("a", 61)}
+	ask := func() []answer { return answersOfAll(firsts, seconds) }
+	checkSame(t, ask(), ask)
+}
+
+// A Lens that was kept, while others are made and asked, answers as one does that is made anew.
+func TestP2AnswersHangOnTheProgramAlone(t *testing.T) {
+	programs := []string{"/a/*", api.Commas, api.Equals, "(/a/~/b/)", `-/a*/"a"/b/`, "/a*//a*/", `+"a"`, "(", "/a|ab/|/b/", "</ab/>", nest(13, "/a/"), `-/a/"b"`, "/" + strings.Repeat("a", 25) + "/"}
+	texts := []string{"", "a", "ab", "ba", "aab", "abab", "a,1;", "a1", "a=1!", "\x00", strings.Repeat("a", 60), strings.Repeat("a", 61)}
+	kept := map[string]*lenses.Lens{}
+	for _, program := range programs {
+		kept[program], _ = lenses.Compile(program)
+	}
+	askKept := func() []answer {
+		var out []answer
+		for _, program := range programs {
+			out = append(out, answersOfLens(kept[program], texts)...)
+		}
+		return out
+	}
+	askNew := func() []answer {
+		var out []answer
+		for _, program := range programs {
+			l, _ := lenses.Compile(strings.Clone(program))
+			out = append(out, answersOfLens(l, texts)...)
+		}
+		return out
+	}
+	askCompile := func() []answer {
+		var out []answer
+		for _, program := range programs {
+			l, err := lenses.Compile(strings.Clone(program))
+			out = append(out, answer{l != nil, err})
+		}
+		return out
+	}
+	want := askKept()
+	checkSame(t, want, askNew)
+	checkSame(t, want, askKept)
+	checkSame(t, askCompile(), askCompile)
 }

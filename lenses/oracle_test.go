@@ -16,17 +16,26 @@ var (
 	oracleRow     = regexp.MustCompile(`^(?:x[*+?]?|\|)*$`)
 )
 
-// oracleError puts an x in place of each thing, then in place of each innermost bracket, for as long as there is one: as many rounds as there are brackets within brackets.
+// oracleError tells what is wrong with a pattern.
 func oracleError(pattern string) api.Errno {
 	if len(pattern) > 120 {
 		return api.ErrLong
 	}
-	for _, b := range []byte(pattern) {
-		if b != '\n' && (b < 32 || b > 126) {
-			return api.ErrSyntax
-		}
+	size, depth, ok := oracleMeasure(pattern)
+	switch {
+	case !ok || depth > 12:
+		return api.ErrSyntax
+	case size > 24:
+		return api.ErrSize
 	}
-	size := 0
+	return api.OK
+}
+
+// oracleMeasure puts an x in place of each thing, then in place of each innermost bracket, for as long as there is one: as many rounds as there are brackets within brackets.
+func oracleMeasure(pattern string) (size, depth int, ok bool) {
+	if !oracleSigns(pattern) {
+		return 0, 0, false
+	}
 	greater := false
 	rest := oracleThing.ReplaceAllStringFunc(pattern, func(thing string) string {
 		size++
@@ -37,18 +46,20 @@ func oracleError(pattern string) api.Errno {
 		}
 		return "x"
 	})
-	depth := 0
 	for oracleBracket.MatchString(rest) {
 		rest = oracleBracket.ReplaceAllString(rest, "x")
 		depth++
 	}
-	switch {
-	case greater || depth > 12 || !oracleRow.MatchString(rest):
-		return api.ErrSyntax
-	case size > 24:
-		return api.ErrSize
+	return size, depth, !greater && oracleRow.MatchString(rest)
+}
+
+func oracleSigns(text string) bool {
+	for _, b := range []byte(text) {
+		if b != '\n' && (b < 32 || b > 126) {
+			return false
+		}
 	}
-	return api.OK
+	return true
 }
 
 // oracleInner tells a pattern that is one in the library's way of writing.
@@ -65,5 +76,9 @@ func oracleInner(pattern string) string {
 }
 
 func oracleRegexp(pattern string) *regexp.Regexp {
-	return regexp.MustCompile(`\A(?:` + oracleInner(pattern) + `)\z`)
+	return oracleWhole(oracleInner(pattern))
+}
+
+func oracleWhole(inner string) *regexp.Regexp {
+	return regexp.MustCompile(`\A(?:` + inner + `)\z`)
 }

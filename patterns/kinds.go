@@ -27,6 +27,34 @@ type repeat struct {
 	again   bool
 }
 
+func onlySign(b byte) Pattern {
+	return place{Signs{}.with(b, b)}
+}
+
+// Word is the pattern of one text, which has signs alone.
+func Word(text string) Pattern {
+	var parts []Pattern
+	for i := range len(text) {
+		parts = append(parts, onlySign(text[i]))
+	}
+	return row{parts}
+}
+
+// Behind has the texts of one, each with a text of the other behind it.
+func Behind(one, other Pattern) Pattern {
+	return row{[]Pattern{one, other}}
+}
+
+// Either has the texts of both.
+func Either(one, other Pattern) Pattern {
+	return choice{[]Pattern{one, other}}
+}
+
+// Many has any number of texts of one, one behind the other.
+func Many(one Pattern) Pattern {
+	return repeat{part: one, missing: true, again: true}
+}
+
 func (p place) Size() int { return 1 }
 
 func (p row) Size() int { return sizeOfAll(p.parts) }

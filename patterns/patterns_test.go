@@ -4,6 +4,8 @@ import (
 	"errors"
 	"strings"
 	"testing"
+
+	"lenses/reading"
 )
 
 func TestReadTellsWhatIsWrong(t *testing.T) {
@@ -12,10 +14,10 @@ func TestReadTellsWhatIsWrong(t *testing.T) {
 		want error
 	}{
 		{"a|(b*)", nil},
-		{"a|(b*", ErrSyntax},
-		{strings.Repeat("a", 25), ErrSize},
-		{strings.Repeat("a", 25) + ")", ErrSyntax},
-		{strings.Repeat("|", 121), ErrLong},
+		{"a|(b*", reading.ErrSyntax},
+		{strings.Repeat("a", 25), reading.ErrSize},
+		{strings.Repeat("a", 25) + ")", reading.ErrSyntax},
+		{strings.Repeat("|", 121), reading.ErrLong},
 	} {
 		p, err := Read(c.text)
 		if !errors.Is(err, c.want) || (p == nil) != (err != nil) {

@@ -1,118 +1,59 @@
 package patterns
 
 import (
-	"errors"
 	"strings"
 
-	"lenses/api"
-)
-
-// What can go wrong in reading a pattern, in the order in which it is told.
-var (
-	ErrLong   = errors.New("the pattern is too long")
-	ErrSyntax = errors.New("it is no pattern")
-	ErrSize   = errors.New("there is too much in the pattern")
+	"lenses/reading"
 )
 
 // special has the signs that stand for themselves only behind a backslash. (The dot is not among them: it is a thing without one, too.)
 const special = "()[]*+?|/\"\\"
 
-// Read answers the pattern that a text tells, or one of the errors above.
+// Read answers the pattern that a text tells, or one of the errors of package reading.
 func Read(text string) (Pattern, error) {
-	if len(text) > api.MaxProgram {
-		return nil, ErrLong
-	}
-	p, err := readWhole(text)
-	if err != nil {
-		return nil, err
-	}
-	if p.Size() > api.MaxSize {
-		return nil, ErrSize
-	}
-	return p, nil
+	return reading.Whole(text, ReadAt)
 }
 
-// readWhole is where the panic ends by which the reader leaves its recursion.
-func readWhole(text string) (p Pattern, err error) {
-	defer func() {
-		if fault, ok := recover().(error); ok {
-			p, err = nil, fault
-		}
-	}()
-	r := &reader{text: text}
-	p = r.choice()
-	if !r.done() {
-		r.fail()
-	}
-	return p, nil
+// ReadAt reads a pattern out of a longer text, up to what can't belong to it. It leaves by a panic where there is none; its brackets count on top of those that are open.
+func ReadAt(c *reading.Cursor) Pattern {
+	return reader{c}.choice()
 }
 
 type reader struct {
-	text  string
-	at    int
-	depth int
+	*reading.Cursor
 }
 
-func (r *reader) fail() {
-	panic(ErrSyntax)
-}
-
-func (r *reader) done() bool {
-	return r.at >= len(r.text)
-}
-
-func (r *reader) sees(b byte) bool {
-	return !r.done() && r.text[r.at] == b
-}
-
-func (r *reader) next() byte {
-	if r.done() {
-		r.fail()
-	}
-	r.at++
-	return r.text[r.at-1]
-}
-
-// skip passes over the byte b, if it stands here.
-func (r *reader) skip(b byte) bool {
-	if !r.sees(b) {
-		return false
-	}
-	r.at++
-	return true
-}
-
-func (r *reader) choice() Pattern {
+func (r reader) choice() Pattern {
 	sides := []Pattern{r.row()}
-	for r.skip('|') {
+	for r.Skip('|') {
 		sides = append(sides, r.row())
 	}
 	return choice{sides}
 }
 
-func (r *reader) row() Pattern {
+func (r reader) row() Pattern {
 	var parts []Pattern
-	for !r.done() && !r.sees('|') && !r.sees(')') {
+	for !r.Done() && !r.Sees('|', ')', '/') {
 		parts = append(parts, r.repeat(r.thing()))
 	}
 	return row{parts}
 }
 
 // repeat takes one mark at most: a second one is then read as a thing, which it is not.
-func (r *reader) repeat(p Pattern) Pattern {
+func (r reader) repeat(p Pattern) Pattern {
 	switch {
-	case r.skip('*'):
-		return repeat{part: p, missing: true, again: true}
-	case r.skip('+'):
+	case r.Skip('*'):
+		return Many(p)
+	case r.Skip('+'):
 		return repeat{part: p, again: true}
-	case r.skip('?'):
+	case r.Skip('?'):
 		return repeat{part: p, missing: true}
 	}
 	return p
 }
 
-func (r *reader) thing() Pattern {
-	b := r.next()
+func (r reader) thing() Pattern {
+	b := r.Next()
 	switch {
 	case b == '(':
 		return r.inner()
@@ -121,59 +62,53 @@ func (r *reader) thing() Pattern {
 	case b == '.':
 		return place{Signs{}.with('a', 'z')}
 	case b == '\\':
-		return r.sign(r.next())
+		return r.sign(r.Next())
 	case strings.IndexByte(special, b) >= 0:
-		r.fail()
+		r.Fail()
 	}
 	return r.sign(b)
 }
 
-func (r *reader) sign(b byte) Pattern {
-	if !isSign(b) {
-		r.fail()
+func (r reader) sign(b byte) Pattern {
+	if !IsSign(b) {
+		r.Fail()
 	}
-	return place{Signs{}.with(b, b)}
+	return onlySign(b)
 }
 
 // inner reads what stands behind an opening bracket, and the closing one.
-func (r *reader) inner() Pattern {
-	r.depth++
-	if r.depth > api.MaxDepth {
-		r.fail()
-	}
+func (r reader) inner() Pattern {
+	r.Open()
 	p := r.choice()
-	if !r.skip(')') {
-		r.fail()
-	}
-	r.depth--
+	r.Close(')')
 	return p
 }
 
 // class asks for a range ahead of each look for the closing bracket: a class of none is no class.
-func (r *reader) class() Pattern {
+func (r reader) class() Pattern {
 	signs := r.classRange(Signs{})
-	for !r.skip(']') {
+	for !r.Skip(']') {
 		signs = r.classRange(signs)
 	}
 	return place{signs}
 }
 
-func (r *reader) classRange(signs Signs) Signs {
+func (r reader) classRange(signs Signs) Signs {
 	first := r.letterOrDigit()
 	last := first
-	if r.skip('-') {
+	if r.Skip('-') {
 		last = r.letterOrDigit()
 	}
 	if first > last {
-		r.fail()
+		r.Fail()
 	}
 	return signs.with(first, last)
 }
 
-func (r *reader) letterOrDigit() byte {
-	b := r.next()
+func (r reader) letterOrDigit() byte {
+	b := r.Next()
 	if !isLetterOrDigit(b) {
-		r.fail()
+		r.Fail()
 	}
 	return b
 }

@@ -4,7 +4,8 @@ package patterns
 // Signs is a set of signs. Every sign is below 128, so two words of bits hold any set.
 type Signs [2]uint64
 
-func isSign(b byte) bool {
+// IsSign tells whether a byte is a sign: no text with another one is of any pattern.
+func IsSign(b byte) bool {
 	return b >= ' ' && b <= '~' || b == '\n'
 }
 

@@ -1,0 +1,47 @@
+package programs
+
+import (
+	"errors"
+	"strings"
+	"testing"
+
+	"lenses/reading"
+)
+
+func TestReadTellsWhatIsWrong(t *testing.T) {
+	for text, want := range map[string]error{
+		`</[a-z]+/-/;/";"/0/>`:              nil,
+		"/a/*":                              nil,
+		"/a":                                reading.ErrSyntax,
+		"/a*//a*/":                          ErrType,
+		"/a*//a*/)":                         reading.ErrSyntax,
+		"/" + strings.Repeat("a", 25) + "/": reading.ErrSize,
+		"/a*//a*//" + strings.Repeat("a", 25) + "/": reading.ErrSize,
+		strings.Repeat("//", 61):                    reading.ErrLong,
+	} {
+		part, err := Read(text)
+		if !errors.Is(err, want) || (part == nil) != (err != nil) {
+			t.Errorf("Read(%q) = %v, %v, want %v", text, part, err, want)
+		}
+	}
+}
+
+// The bound on a text is the calls': a part knows its texts of any length.
+func TestPartsKnowLongTexts(t *testing.T) {
+	part, err := Read(`(/a/-/;/";")*`)
+	if err != nil {
+		t.Fatal(err)
+	}
+	if !part.IsSource(strings.Repeat("a;", 100)) || !part.IsView(strings.Repeat("a", 100)) || part.IsView(strings.Repeat("a;", 100)) {
+		t.Error("a part does not know its long texts")
+	}
+}
+
+func TestNeed(t *testing.T) {
+	if err := reading.Caught(func() { need(true) }); err != nil {
+		t.Errorf("what holds is told as %v", err)
+	}
+	if err := reading.Caught(func() { need(false) }); !errors.Is(err, ErrType) {
+		t.Errorf("what does not hold is told as %v", err)
+	}
+}

@@ -56,11 +56,12 @@ func TestP1ProgramsAndTheirTexts(t *testing.T) {
 			if (source || view) && (l == nil || len(text) > 60) {
 				t.Errorf("%q: IsSource(%q) = %v, IsView %v", program, text, source, view)
 			}
+			checkTurned(t, program, l, text, source, view)
 		}
 	}
-	if l := new(lenses.Lens); l.IsSource("") || l.IsView("") {
-		t.Errorf("a Lens without a program has texts")
-	}
+	none := new(lenses.Lens)
+	checkKind(t, "none", none, "", false, false)
+	checkTurned(t, "none", none, "", false, false)
 }
 
 // Programs for whose types much is to be searched, and texts that could be read in many ways.
@@ -71,6 +72,27 @@ func TestP1GreatProgramsEnd(t *testing.T) {
 	l := mustCompile(t, "</(a|b)*"+strings.Repeat("(a?|b?)", 8)+"c/>")
 	checkKind(t, "many ways", l, strings.Repeat("a", 59)+"c", true, true)
 	checkKind(t, "many ways", l, strings.Repeat("a", 60), false, false)
+}
+
+// Texts for whose cutting many places are to be tried, by parts within parts.
+func TestP1GreatCutsEnd(t *testing.T) {
+	long := strings.Repeat("a", 59) + "c"
+	for _, program := range []string{
+		"</(a|b)*" + strings.Repeat("(a?|b?)", 8) + "c/>", "/a*/" + strings.Repeat("//", 50) + "/c/", strings.Repeat("//", 55) + "/a*c/", "((/a/)*///c/)*",
+		"<(/a/)*/c/>", nest(10, "(/a*/~/c/)") + "*", "(/a*/" + strings.Repeat("//", 40) + "/c/)*", "((/a/)*/b?/)(/c/)*", nest(6, "</a*b?c/>"),
+	} {
+		l := mustCompile(t, program)
+		got, err := l.Get(long)
+		if err != api.OK || len(got) != 60 {
+			t.Errorf("%q: Get(%q) = %q, %d", program, long, got, err)
+		}
+		checkCreate(t, program, l, got, long)
+	}
+	checkTurns(t,
+		turnsOf{strings.Repeat("//", 60), []oracleTurn{{"", ""}}, []oracleTurn{{"", ""}}},
+		turnsOf{strings.Repeat(`+""`, 40), []oracleTurn{{"", ""}}, []oracleTurn{{"", ""}}},
+		turnsOf{"/" + strings.Join(strings.Split("abcdefghijklmnopqrst", ""), "*//") + "*/", []oracleTurn{{"acet", "acet"}}, []oracleTurn{{"ttt", "ttt"}}},
+	)
 }
 
 // Repeats within repeats are where a search that tries one way after another would not end in a lifetime.
@@ -105,8 +127,9 @@ func TestP1WideSearchesEnd(t *testing.T) {
 }
 
 type answer struct {
-	yes bool
-	err api.Errno
+	yes  bool
+	text string
+	err  api.Errno
 }
 
 // answersOfAll asks each call that answers yes or no, at each pair.
@@ -116,7 +139,7 @@ func answersOfAll(firsts, seconds []string) []answer {
 		for _, a := range firsts {
 			for _, b := range seconds {
 				yes, err := ask(strings.Clone(a), strings.Clone(b))
-				out = append(out, answer{yes, err})
+				out = append(out, answer{yes: yes, err: err})
 			}
 		}
 	}
@@ -128,6 +151,10 @@ func answersOfLens(l *lenses.Lens, texts []string) []answer {
 	var out []answer
 	for _, text := range texts {
 		out = append(out, answer{yes: l.IsSource(strings.Clone(text))}, answer{yes: l.IsView(strings.Clone(text))})
+		got, err := l.Get(strings.Clone(text))
+		out = append(out, answer{text: got, err: err})
+		made, err := l.Create(strings.Clone(text))
+		out = append(out, answer{text: made, err: err})
 	}
 	return out
 }
@@ -162,7 +189,7 @@ func TestP2AnswersHangOnArgumentsAlone(t *testing.T) {
 
 // A Lens that was kept, while others are made and asked, answers as one does that is made anew.
 func TestP2AnswersHangOnTheProgramAlone(t *testing.T) {
-	programs := []string{"/a/*", api.Commas, api.Equals, "(/a/~/b/)", `-/a*/"a"/b/`, "/a*//a*/", `+"a"`, "(", "/a|ab/|/b/", "</ab/>", nest(13, "/a/"), `-/a/"b"`, "/" + strings.Repeat("a", 25) + "/"}
+	programs := []string{"/a/*", api.Commas, api.Equals, "(/a/~/b/)", `-/a*/"a"/b/`, "/a*//a*/", `+"a"`, "(", "/a|ab/|/b/", "</ab/>", `/a/-/b?/""|/a/-/,/","`, `</a/-/b/"b"+";">`, nest(13, "/a/"), `-/a/"b"`, "/" + strings.Repeat("a", 25) + "/"}
 	texts := []string{"", "a", "ab", "ba", "aab", "abab", "a,1;", "a1", "a=1!", "\x00", strings.Repeat("a", 60), strings.Repeat("a", 61)}
 	kept := map[string]*lenses.Lens{}
 	for _, program := range programs {
@@ -187,7 +214,7 @@ func TestP2AnswersHangOnTheProgramAlone(t *testing.T) {
 		var out []answer
 		for _, program := range programs {
 			l, err := lenses.Compile(strings.Clone(program))
-			out = append(out, answer{l != nil, err})
+			out = append(out, answer{yes: l != nil, err: err})
 		}
 		return out
 	}

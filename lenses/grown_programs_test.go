@@ -14,10 +14,10 @@ const programSigns = "abcd,;" + spoilingMarks
 // spoilingMarks are put into programs that are right otherwise.
 const spoilingMarks = "/\"()<>|~*+-.\\[]?\n"
 
-// checkProgramAgainstOracle asks Compile, and what the Lens says of the texts, and answers the error.
+// checkProgramAgainstOracle asks Compile, what the Lens says of the texts, and what it makes of them and of longer ones that are grown out of them. It answers the error.
 func checkProgramAgainstOracle(t *testing.T, program string, texts []string) api.Errno {
 	t.Helper()
-	part, want := oracleProgram(program, programSigns)
+	part, want := oracleProgram(program, programSigns, texts)
 	l, err := lenses.Compile(program)
 	if err != want || (l == nil) != (err != api.OK) {
 		t.Errorf("Compile(%q) = %v, %d, want %d", program, l, err, want)
@@ -28,7 +28,16 @@ func checkProgramAgainstOracle(t *testing.T, program string, texts []string) api
 	}
 	sources, views := oracleWhole(part.s), oracleWhole(part.v)
 	for _, text := range texts {
-		checkKind(t, program, l, text, sources.MatchString(text), views.MatchString(text))
+		source, view := sources.MatchString(text), views.MatchString(text)
+		checkKind(t, program, l, text, source, view)
+		checkTurned(t, program, l, text, source, view)
+	}
+	turns := part.turns()
+	for _, turn := range turns.get {
+		checkGet(t, program, l, turn.from, turn.to)
+	}
+	for _, turn := range turns.create {
+		checkCreate(t, program, l, turn.from, turn.to)
 	}
 	return want
 }
@@ -43,7 +52,7 @@ func checkCounts(t *testing.T, count map[api.Errno]int, kinds ...api.Errno) {
 	}
 }
 
-func TestP5P6P7AllShortRowsOfTokens(t *testing.T) {
+func TestP5ToP9AllShortRowsOfTokens(t *testing.T) {
 	tokens := []string{"/a/", "/b*/", `-/a|b/"b"`, `+"a"`, "(", ")", "<", ">", "~", "|", "*"}
 	texts := allWords("ab", 3)
 	count := map[api.Errno]int{}
@@ -96,7 +105,7 @@ func (d *dice) part(depth int) string {
 	return "(" + d.program(depth-1) + "~" + d.program(depth-1) + ")" + d.pick("", "", "*")
 }
 
-func TestP5P6P7GrownPrograms(t *testing.T) {
+func TestP5ToP9GrownPrograms(t *testing.T) {
 	d := dice(4)
 	texts := allWords("abc,;", 3)
 	count := map[api.Errno]int{}
@@ -119,7 +128,7 @@ func (d *dice) spoil(program string) string {
 	return program[:at] + program[at+1:]
 }
 
-func TestP5P6P7SpoiledPrograms(t *testing.T) {
+func TestP5ToP9SpoiledPrograms(t *testing.T) {
 	d := dice(5)
 	texts := allWords("abc,;", 2)
 	count := map[api.Errno]int{}

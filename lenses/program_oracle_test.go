@@ -23,11 +23,15 @@ var (
 	oracleInside  = regexp.MustCompile(`\([^()<>]*\)\*?|<[^()<>]*>`)
 )
 
-// oraclePart has the sources and views of a part in the library's way of writing.
-type oraclePart struct{ s, v string }
+// oraclePart has the sources and views of a part in the library's way of writing. Its turns are grown only when they are asked for: they mean nothing where it is not well typed.
+type oraclePart struct {
+	s, v  string
+	turns func() oracleTurns
+}
 
 type oracleReader struct {
 	alphabet string
+	texts    []string
 	parts    []oraclePart
 	depth    int
 	size     int
@@ -35,12 +39,12 @@ type oracleReader struct {
 	ill      bool
 }
 
-// oracleProgram reads a program all of whose signs, but for those that nothing tells apart, are in the alphabet.
-func oracleProgram(program, alphabet string) (oraclePart, api.Errno) {
+// oracleProgram reads a program all of whose signs, but for those that nothing tells apart, are in the alphabet. The turns of its parts are grown out of those of the texts that are their patterns'.
+func oracleProgram(program, alphabet string, texts []string) (oraclePart, api.Errno) {
 	if len(program) > 120 {
 		return oraclePart{}, api.ErrLong
 	}
-	o := &oracleReader{alphabet: alphabet, wrong: !oracleSigns(program)}
+	o := &oracleReader{alphabet: alphabet, texts: texts, wrong: !oracleSigns(program)}
 	rest := ""
 	for program != "" && !o.wrong {
 		token, length := o.token(program)
@@ -66,21 +70,22 @@ func oracleProgram(program, alphabet string) (oraclePart, api.Errno) {
 func (o *oracleReader) token(program string) (string, int) {
 	if m := oracleCopied.FindStringSubmatch(program); m != nil {
 		p := o.pattern(m[1])
+		part := oraclePart{p, p, func() oracleTurns { return oracleCopyTurns(o.textsOf(p)) }}
 		if m[2] == "" {
-			return o.keep(oraclePart{p, p}), len(m[0])
+			return o.keep(part), len(m[0])
 		}
 		o.size++
-		return o.keep(o.pieces(oraclePart{p, p})), len(m[0])
+		return o.keep(o.pieces(part)), len(m[0])
 	}
 	if m := oracleLeftOut.FindStringSubmatch(program); m != nil {
 		p := o.pattern(m[1])
 		o.size += len(m[2])
 		o.need(func() bool { return oracleWhole(p).MatchString(m[2]) })
-		return o.keep(oraclePart{p, ""}), len(m[0])
+		return o.keep(oraclePart{p, "", func() oracleTurns { return oracleLeaveOutTurns(o.textsOf(p), m[2]) }}), len(m[0])
 	}
 	if m := oraclePutIn.FindStringSubmatch(program); m != nil {
 		o.size += len(m[1])
-		return o.keep(oraclePart{"", regexp.QuoteMeta(m[1])}), len(m[0])
+		return o.keep(oraclePart{"", regexp.QuoteMeta(m[1]), func() oracleTurns { return oraclePutInTurns(m[1]) }}), len(m[0])
 	}
 	mark := oracleMark.FindString(program)
 	switch mark {
@@ -110,6 +115,18 @@ func (o *oracleReader) pattern(text string) string {
 	return "(?:" + oracleInner(text) + ")"
 }
 
+// textsOf answers those of the texts that are a pattern's.
+func (o *oracleReader) textsOf(p string) []string {
+	var out []string
+	whole := oracleWhole(p)
+	for _, text := range o.texts {
+		if whole.MatchString(text) {
+			out = append(out, text)
+		}
+	}
+	return out
+}
+
 func (o *oracleReader) keep(p oraclePart) string {
 	o.parts = append(o.parts, p)
 	return string(rune(oracleParts + len(o.parts) - 1))
@@ -132,7 +149,8 @@ func (o *oracleReader) bracket(text string) string {
 	p := o.lens(first)
 	if change {
 		other := o.lens(second)
-		p = oraclePart{o.behind(p.s, other.s), o.behind(other.v, p.v)}
+		first := p
+		p = oraclePart{o.behind(first.s, other.s), o.behind(other.v, first.v), func() oracleTurns { return oracleChangeTurns(first.turns(), other.turns()) }}
 	}
 	if star {
 		p = o.pieces(p)
@@ -148,7 +166,8 @@ func (o *oracleReader) lens(text string) oraclePart {
 	}
 	other := o.lens(rest)
 	o.need(func() bool { return oracleApart(oracleCompile(p.s), oracleCompile(other.s), o.alphabet) })
-	return oraclePart{"(?:" + p.s + "|" + other.s + ")", "(?:" + p.v + "|" + other.v + ")"}
+	turns := func() oracleTurns { return oracleUnionTurns(p.turns(), other.turns(), p.v) }
+	return oraclePart{"(?:" + p.s + "|" + other.s + ")", "(?:" + p.v + "|" + other.v + ")", turns}
 }
 
 func (o *oracleReader) row(parts []rune) oraclePart {
@@ -161,7 +180,7 @@ func (o *oracleReader) row(parts []rune) oraclePart {
 		return p
 	}
 	rest := o.row(parts[1:])
-	return oraclePart{o.behind(p.s, rest.s), o.behind(p.v, rest.v)}
+	return oraclePart{o.behind(p.s, rest.s), o.behind(p.v, rest.v), func() oracleTurns { return oracleRowTurns(p.turns(), rest.turns()) }}
 }
 
 func (o *oracleReader) behind(a, b string) string {
@@ -175,5 +194,5 @@ func (o *oracleReader) pieces(p oraclePart) oraclePart {
 			return !oracleWhole(one).MatchString("") && oraclePieces(oracleCompile(one), o.alphabet)
 		})
 	}
-	return oraclePart{"(?:" + p.s + ")*", "(?:" + p.v + ")*"}
+	return oraclePart{"(?:" + p.s + ")*", "(?:" + p.v + ")*", func() oracleTurns { return oracleRepeatTurns(p.turns()) }}
 }

@@ -95,3 +95,24 @@ func Once(a, b *Net) bool {
 	}
 	return true
 }
+
+// Cut cuts a text, which must have such a cut, into one of a and, behind it, one of b. Where Once holds of both there is no other way.
+func Cut(a, b *Net, text string) (string, string) {
+	for at := range len(text) {
+		if a.Matches(text[:at]) && b.Matches(text[at:]) {
+			return text[:at], text[at:]
+		}
+	}
+	return text, ""
+}
+
+// Pieces cuts a text of all into texts of one. All must have any number of texts of one, and one must not have the text of no signs, or the cutting would not get ahead.
+func Pieces(one, all *Net, text string) []string {
+	var pieces []string
+	for rest := text; rest != ""; {
+		var piece string
+		piece, rest = Cut(one, all, rest)
+		pieces = append(pieces, piece)
+	}
+	return pieces
+}

@@ -62,3 +62,37 @@ func TestANetAnswersTheSameAgain(t *testing.T) {
 		}
 	}
 }
+
+func mustNet(t *testing.T, text string) *Net {
+	t.Helper()
+	p, err := Read(text)
+	if err != nil {
+		t.Fatal(err)
+	}
+	return NewNet(p)
+}
+
+func TestCut(t *testing.T) {
+	for _, c := range []struct{ a, b, first, second string }{
+		{"a*", "b*", "aa", "bb"}, {"a*", "b*", "", "b"}, {"a*", "b*", "a", ""}, {"a*", "b*", "", ""},
+		{"a|ab", "c|bd", "a", "c"}, {"a|ab", "c|bd", "ab", "c"}, {"a|ab", "c|bd", "a", "bd"}, {"a|ab", "c|bd", "ab", "bd"},
+		{"a*", "a", strings.Repeat("a", 100), "a"}, {"a", "a*", "a", strings.Repeat("a", 100)},
+	} {
+		first, second := Cut(mustNet(t, c.a), mustNet(t, c.b), c.first+c.second)
+		if first != c.first || second != c.second {
+			t.Errorf("%q is cut by %q, %q into %q, %q", c.first+c.second, c.a, c.b, first, second)
+		}
+	}
+}
+
+func TestPieces(t *testing.T) {
+	for _, c := range []struct{ one, pieces string }{
+		{"a", ""}, {"a", "a"}, {"a", "a a a"}, {"a*b", "aab b ab"}, {"a|ab|bb", "ab"}, {"a|ab|bb", "a bb"}, {"a|ab|bb", "ab bb"}, {"a|ab|bb", "bb ab bb a"},
+	} {
+		text := strings.ReplaceAll(c.pieces, " ", "")
+		got := strings.Join(Pieces(mustNet(t, c.one), mustNet(t, "("+c.one+")*"), text), " ")
+		if got != c.pieces {
+			t.Errorf("%q is cut by %q into %q", text, c.one, got)
+		}
+	}
+}

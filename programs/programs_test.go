@@ -37,6 +37,18 @@ func TestPartsKnowLongTexts(t *testing.T) {
 	}
 }
 
+// They turn texts of any length, too.
+func TestPartsTurnLongTexts(t *testing.T) {
+	part, err := Read(`</a/-/;/";">`)
+	if err != nil {
+		t.Fatal(err)
+	}
+	source, view := strings.Repeat("a;", 100), strings.Repeat("a", 100)
+	if part.Get(source) != view || part.Create(view) != source {
+		t.Error("a part does not turn its long texts")
+	}
+}
+
 func TestNeed(t *testing.T) {
 	if err := reading.Caught(func() { need(true) }); err != nil {
 		t.Errorf("what holds is told as %v", err)

@@ -44,6 +44,16 @@ func many(piece texts) texts {
 	return all
 }
 
+// cut undoes what behind put together.
+func cut(first, second texts, text string) (string, string) {
+	return patterns.Cut(first.Net, second.Net, text)
+}
+
+// pieces undoes what many put together.
+func pieces(piece, all texts, text string) []string {
+	return patterns.Pieces(piece.Net, all.Net, text)
+}
+
 // types are what every part has: which texts are its sources, and which its views.
 type types struct {
 	sources texts

@@ -62,6 +62,40 @@ func TestP1ProgramsAndTheirTexts(t *testing.T) {
 	none := new(lenses.Lens)
 	checkKind(t, "none", none, "", false, false)
 	checkTurned(t, "none", none, "", false, false)
+	checkWritten(t, "none", none, "", "")
+}
+
+// Each text is put into some others and some others into it; each program converts to others and from them.
+func TestP1PutAndConvert(t *testing.T) {
+	texts := oddTexts()
+	var made []*lenses.Lens
+	for _, program := range texts {
+		l, _ := lenses.Compile(program)
+		others := []string{"", "a", "aa", "ab", "ba", "a,1;", "a=1!", "b2a1", "\x00", strings.Repeat("a", 60), strings.Repeat("a", 61)}
+		for _, text := range texts {
+			for _, other := range append(others, text) {
+				checkWritten(t, program, l, text, other)
+				checkWritten(t, program, l, other, text)
+			}
+			if t.Failed() {
+				return
+			}
+		}
+		if l != nil {
+			made = append(made, l)
+		}
+	}
+	made = append(made, nil, new(lenses.Lens))
+	for _, from := range made {
+		for _, to := range made {
+			for _, text := range texts {
+				got, err := lenses.Convert(from, to, text)
+				if source := from.IsSource(text); source == (err == api.ErrSource) || err != api.OK && (got != "" || source && err != api.ErrView) {
+					t.Errorf("Convert(%q) = %q, %d", text, got, err)
+				}
+			}
+		}
+	}
 }
 
 // Programs for whose types much is to be searched, and texts that could be read in many ways.
@@ -87,12 +121,35 @@ func TestP1GreatCutsEnd(t *testing.T) {
 			t.Errorf("%q: Get(%q) = %q, %d", program, long, got, err)
 		}
 		checkCreate(t, program, l, got, long)
+		checkPut(t, program, l, got, long, long)
 	}
 	checkTurns(t,
 		turnsOf{strings.Repeat("//", 60), []oracleTurn{{"", ""}}, []oracleTurn{{"", ""}}},
 		turnsOf{strings.Repeat(`+""`, 40), []oracleTurn{{"", ""}}, []oracleTurn{{"", ""}}},
 		turnsOf{"/" + strings.Join(strings.Split("abcdefghijklmnopqrst", ""), "*//") + "*/", []oracleTurn{{"acet", "acet"}}, []oracleTurn{{"ttt", "ttt"}}},
 	)
+}
+
+// Views that are put into sources by repeats within repeats, and by unions within unions.
+func TestP1GreatPutsEnd(t *testing.T) {
+	byKeys := strings.Repeat("<", 12) + "/" + strings.Join(strings.Split("abcdefghijkl", ""), "/>/") + "/>"
+	inRounds := strings.Repeat("(", 11) + "/" + strings.Join(strings.Split("abcdefghijk", ""), "/)*/") + "/)*"
+	for _, program := range []string{byKeys, inRounds} {
+		l := mustCompile(t, program)
+		long, short := strings.Repeat("a", 49)+"bcdefghijkl", strings.Repeat("bcdefghijkl", 5)
+		if program == inRounds {
+			long, short = strings.Repeat("a", 50)+"bcdefghijk", strings.Repeat("bcdefghijk", 6)
+		}
+		checkPut(t, program, l, long, long, long)
+		checkPut(t, program, l, short, long, short)
+		checkPut(t, program, l, long, short, long)
+	}
+	sides := "/" + strings.Join(strings.Split("abcdefghijklmnopqrstuvw", ""), "/|/") + "/"
+	for _, program := range []string{"(" + sides + ")*", "<" + sides + ">"} {
+		l := mustCompile(t, program)
+		checkPut(t, program, l, strings.Repeat("w", 60), strings.Repeat("v", 60), strings.Repeat("w", 60))
+		checkPut(t, program, l, strings.Repeat("abcdefvuw", 6), strings.Repeat("wvujihg", 6), strings.Repeat("abcdefvuw", 6))
+	}
 }
 
 // Repeats within repeats are where a search that tries one way after another would not end in a lifetime.
@@ -155,6 +212,24 @@ func answersOfLens(l *lenses.Lens, texts []string) []answer {
 		out = append(out, answer{text: got, err: err})
 		made, err := l.Create(strings.Clone(text))
 		out = append(out, answer{text: made, err: err})
+		for _, other := range texts {
+			put, err := l.Put(strings.Clone(text), strings.Clone(other))
+			out = append(out, answer{text: put, err: err})
+		}
+	}
+	return out
+}
+
+// answersOfConvert asks from every program to every other.
+func answersOfConvert(all []*lenses.Lens, texts []string) []answer {
+	var out []answer
+	for _, from := range all {
+		for _, to := range all {
+			for _, text := range texts {
+				got, err := lenses.Convert(from, to, strings.Clone(text))
+				out = append(out, answer{text: got, err: err})
+			}
+		}
 	}
 	return out
 }
@@ -187,29 +262,41 @@ func TestP2AnswersHangOnArgumentsAlone(t *testing.T) {
 	checkSame(t, ask(), ask)
 }
 
+// p2Programs are some of every kind, and some that are none.
+func p2Programs() []string {
+	return []string{
+		"/a/*", api.Commas, api.Equals, "(/a/~/b/)", `-/a*/"a"/b/`, "/a*//a*/", `+"a"`, "(", "/a|ab/|/b/", "</ab/>", `/a/-/b?/""|/a/-/,/","`, `</a/-/b/"b"+";">`,
+		`</[a-z]/-/[0-9]*/"0">`, nest(13, "/a/"), `-/a/"b"`, "/" + strings.Repeat("a", 25) + "/",
+	}
+}
+
+func p2Texts() []string {
+	return []string{"", "a", "ab", "ba", "aab", "abab", "b1a2b3", "a,1;", "b,1;a,2;b,3;", "a1", "b5b6b7a8", "a=1!", "\x00", strings.Repeat("a", 60), strings.Repeat("a", 61)}
+}
+
+// compiled has nothing in the place of what is no program.
+func compiled(programs []string) []*lenses.Lens {
+	var out []*lenses.Lens
+	for _, program := range programs {
+		l, _ := lenses.Compile(strings.Clone(program))
+		out = append(out, l)
+	}
+	return out
+}
+
 // A Lens that was kept, while others are made and asked, answers as one does that is made anew.
 func TestP2AnswersHangOnTheProgramAlone(t *testing.T) {
-	programs := []string{"/a/*", api.Commas, api.Equals, "(/a/~/b/)", `-/a*/"a"/b/`, "/a*//a*/", `+"a"`, "(", "/a|ab/|/b/", "</ab/>", `/a/-/b?/""|/a/-/,/","`, `</a/-/b/"b"+";">`, nest(13, "/a/"), `-/a/"b"`, "/" + strings.Repeat("a", 25) + "/"}
-	texts := []string{"", "a", "ab", "ba", "aab", "abab", "a,1;", "a1", "a=1!", "\x00", strings.Repeat("a", 60), strings.Repeat("a", 61)}
-	kept := map[string]*lenses.Lens{}
-	for _, program := range programs {
-		kept[program], _ = lenses.Compile(program)
-	}
-	askKept := func() []answer {
+	programs, texts := p2Programs(), p2Texts()
+	kept := compiled(programs)
+	ask := func(all []*lenses.Lens) []answer {
 		var out []answer
-		for _, program := range programs {
-			out = append(out, answersOfLens(kept[program], texts)...)
-		}
-		return out
-	}
-	askNew := func() []answer {
-		var out []answer
-		for _, program := range programs {
-			l, _ := lenses.Compile(strings.Clone(program))
+		for _, l := range all {
 			out = append(out, answersOfLens(l, texts)...)
 		}
-		return out
+		return append(out, answersOfConvert(all, texts)...)
 	}
+	askKept := func() []answer { return ask(kept) }
+	askNew := func() []answer { return ask(compiled(programs)) }
 	askCompile := func() []answer {
 		var out []answer
 		for _, program := range programs {

@@ -39,7 +39,24 @@ func checkProgramAgainstOracle(t *testing.T, program string, texts []string) api
 	for _, turn := range turns.create {
 		checkCreate(t, program, l, turn.from, turn.to)
 	}
+	for _, put := range turns.puts {
+		checkPut(t, program, l, put.view, put.source, put.result)
+	}
+	checkLaws(t, program, l, turns)
 	return want
+}
+
+// checkLaws asks P13 of sources and views in whatever pairs.
+func checkLaws(t *testing.T, program string, l *lenses.Lens, turns oracleTurns) {
+	t.Helper()
+	for i, source := range oracleThin(turns.get) {
+		checkWrittenBack(t, program, l, source.from)
+		for j, view := range oracleThin(turns.create) {
+			if (i+j)%5 == 0 {
+				checkWritten(t, program, l, view.from, source.from)
+			}
+		}
+	}
 }
 
 // checkCounts asks that there was enough of each of these kinds, or the run told little.
@@ -52,7 +69,7 @@ func checkCounts(t *testing.T, count map[api.Errno]int, kinds ...api.Errno) {
 	}
 }
 
-func TestP5ToP9AllShortRowsOfTokens(t *testing.T) {
+func TestP5ToP13AllShortRowsOfTokens(t *testing.T) {
 	tokens := []string{"/a/", "/b*/", `-/a|b/"b"`, `+"a"`, "(", ")", "<", ">", "~", "|", "*"}
 	texts := allWords("ab", 3)
 	count := map[api.Errno]int{}
@@ -105,7 +122,7 @@ func (d *dice) part(depth int) string {
 	return "(" + d.program(depth-1) + "~" + d.program(depth-1) + ")" + d.pick("", "", "*")
 }
 
-func TestP5ToP9GrownPrograms(t *testing.T) {
+func TestP5ToP13GrownPrograms(t *testing.T) {
 	d := dice(4)
 	texts := allWords("abc,;", 3)
 	count := map[api.Errno]int{}
@@ -128,7 +145,7 @@ func (d *dice) spoil(program string) string {
 	return program[:at] + program[at+1:]
 }
 
-func TestP5ToP9SpoiledPrograms(t *testing.T) {
+func TestP5ToP13SpoiledPrograms(t *testing.T) {
 	d := dice(5)
 	texts := allWords("abc,;", 2)
 	count := map[api.Errno]int{}

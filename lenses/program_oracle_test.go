@@ -75,7 +75,7 @@ func (o *oracleReader) token(program string) (string, int) {
 			return o.keep(part), len(m[0])
 		}
 		o.size++
-		return o.keep(o.pieces(part)), len(m[0])
+		return o.keep(o.pieces(part, oracleRepeatTurns)), len(m[0])
 	}
 	if m := oracleLeftOut.FindStringSubmatch(program); m != nil {
 		p := o.pattern(m[1])
@@ -143,7 +143,7 @@ func (o *oracleReader) bracket(text string) string {
 	bracket, star := strings.CutSuffix(text, "*")
 	inner := bracket[1 : len(bracket)-1]
 	if bracket[0] == '<' {
-		return o.keep(o.pieces(o.lens(inner)))
+		return o.keep(o.pieces(o.lens(inner), oracleKeysTurns))
 	}
 	first, second, change := strings.Cut(inner, "~")
 	p := o.lens(first)
@@ -153,7 +153,7 @@ func (o *oracleReader) bracket(text string) string {
 		p = oraclePart{o.behind(first.s, other.s), o.behind(other.v, first.v), func() oracleTurns { return oracleChangeTurns(first.turns(), other.turns()) }}
 	}
 	if star {
-		p = o.pieces(p)
+		p = o.pieces(p, oracleRepeatTurns)
 	}
 	return o.keep(p)
 }
@@ -166,7 +166,7 @@ func (o *oracleReader) lens(text string) oraclePart {
 	}
 	other := o.lens(rest)
 	o.need(func() bool { return oracleApart(oracleCompile(p.s), oracleCompile(other.s), o.alphabet) })
-	turns := func() oracleTurns { return oracleUnionTurns(p.turns(), other.turns(), p.v) }
+	turns := func() oracleTurns { return oracleUnionTurns(p.turns(), other.turns(), p.v, other.v) }
 	return oraclePart{"(?:" + p.s + "|" + other.s + ")", "(?:" + p.v + "|" + other.v + ")", turns}
 }
 
@@ -188,11 +188,11 @@ func (o *oracleReader) behind(a, b string) string {
 	return a + b
 }
 
-func (o *oracleReader) pieces(p oraclePart) oraclePart {
+func (o *oracleReader) pieces(p oraclePart, turns func(oracleTurns) oracleTurns) oraclePart {
 	for _, one := range []string{p.s, p.v} {
 		o.need(func() bool {
 			return !oracleWhole(one).MatchString("") && oraclePieces(oracleCompile(one), o.alphabet)
 		})
 	}
-	return oraclePart{"(?:" + p.s + ")*", "(?:" + p.v + ")*", func() oracleTurns { return oracleRepeatTurns(p.turns()) }}
+	return oraclePart{"(?:" + p.s + ")*", "(?:" + p.v + ")*", func() oracleTurns { return turns(p.turns()) }}
 }

@@ -283,14 +283,25 @@ func TestP8P9EveryByte(t *testing.T) {
 // An answer lies in memory of its own, even where it is the text that was handed in.
 func TestAnswersShareNoMemory(t *testing.T) {
 	text := strings.Repeat("a", 40)
+	check := func(program, answer string) {
+		t.Helper()
+		if answer != text || unsafe.StringData(answer) == unsafe.StringData(text) {
+			t.Errorf("%q: the answer %q is wrong, or lies where the text does", program, answer)
+		}
+	}
 	for _, program := range []string{"/a*/", "(/a*/)", "/a//a*/", "/a/*", "/b/|/a*/", "///a*/", `-/b*/""/a*/`} {
 		l := mustCompile(t, program)
 		got, _ := l.Get(text)
+		check(program, got)
 		made, _ := l.Create(text)
-		for _, answer := range []string{got, made} {
-			if answer != text || unsafe.StringData(answer) == unsafe.StringData(text) {
-				t.Errorf("%q: the answer %q is wrong, or lies where the text does", program, answer)
-			}
-		}
+		check(program, made)
+		put, _ := l.Put(text, "a")
+		check(program, put)
+		turned, _ := lenses.Convert(l, l, text)
+		check(program, turned)
+	}
+	for _, program := range []string{`-/a*/""`, `-/b*/""-/a*/""`, `/b/|-/a*/""`} {
+		kept, _ := mustCompile(t, program).Put("", text)
+		check(program, kept)
 	}
 }

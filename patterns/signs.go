@@ -9,12 +9,13 @@ func IsSign(b byte) bool {
 	return b >= ' ' && b <= '~' || b == '\n'
 }
 
-func isSmallLetter(b byte) bool {
+// IsSmallLetter tells the letters that the sign `.` stands for.
+func IsSmallLetter(b byte) bool {
 	return b >= 'a' && b <= 'z'
 }
 
 func isLetterOrDigit(b byte) bool {
-	return isSmallLetter(b) || b >= 'A' && b <= 'Z' || b >= '0' && b <= '9'
+	return IsSmallLetter(b) || b >= 'A' && b <= 'Z' || b >= '0' && b <= '9'
 }
 
 // with asks for signs: a last of 255 would never end the loop.

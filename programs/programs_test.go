@@ -44,8 +44,29 @@ func TestPartsTurnLongTexts(t *testing.T) {
 		t.Fatal(err)
 	}
 	source, view := strings.Repeat("a;", 100), strings.Repeat("a", 100)
-	if part.Get(source) != view || part.Create(view) != source {
+	if part.Get(source) != view || part.Create(view) != source || part.Put(view, source) != source {
 		t.Error("a part does not turn its long texts")
+	}
+}
+
+func TestKey(t *testing.T) {
+	for view, want := range map[string]string{"": "", "ab1c": "ab", "az": "az", "1a": "", "aB": "a", "a`": "a", "z{": "z", " a": "", "aé": "a", "\n": ""} {
+		if got := key(view); got != want {
+			t.Errorf("key(%q) = %q, want %q", view, got, want)
+		}
+	}
+}
+
+// Of a key, the first piece is taken first, and none twice.
+func TestStock(t *testing.T) {
+	unused := stock{[]chunk{{"a", "1"}, {"b", "2"}, {"a", "3"}, {"", "4"}}}
+	for _, c := range []struct {
+		key, want string
+		found     bool
+	}{{"b", "2", true}, {"a", "1", true}, {"b", "", false}, {"c", "", false}, {"", "4", true}, {"a", "3", true}, {"a", "", false}, {"", "", false}} {
+		if got, found := unused.take(c.key); got != c.want || found != c.found {
+			t.Errorf("take(%q) = %q, %v, want %q, %v", c.key, got, found, c.want, c.found)
+		}
 	}
 }
 

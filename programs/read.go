@@ -32,8 +32,8 @@ func joined(first, second plan, join func(first, second *Part) *Part) plan {
 	return plan{first.size + second.size, func() *Part { return join(first.build(), second.build()) }}
 }
 
-func again(piece plan) plan {
-	return plan{piece.size + 1, func() *Part { return repeated(piece.build()) }}
+func again(piece plan, repeat func(piece *Part) *Part) plan {
+	return plan{piece.size + 1, func() *Part { return repeat(piece.build()) }}
 }
 
 type reader struct {
@@ -64,7 +64,7 @@ func (r reader) part() plan {
 	case '(':
 		return r.starred(r.round())
 	case '<':
-		return again(r.pointed())
+		return again(r.pointed(), byKeys)
 	case '-':
 		return r.leftOut()
 	case '+':
@@ -76,7 +76,7 @@ func (r reader) part() plan {
 
 func (r reader) starred(p plan) plan {
 	if r.Skip('*') {
-		return again(p)
+		return again(p, repeated)
 	}
 	return p
 }
